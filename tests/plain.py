@@ -1,5 +1,6 @@
 """The document's words taken one by one, day for day, to hold the program against: slow, for few and near days."""
 
+import re
 from itertools import combinations
 
 
@@ -63,3 +64,23 @@ def is_lodged(requests, rooms, lodgings):
 
 def is_crowd(requests, rooms, day, asking):
     return len(asking) > rooms and set(asking) <= set(asked_for(requests, day))
+
+
+def read(text):
+    """The requests that the text tells, or None if it isn't written as the document says."""
+    day, price = r"(0|-?[1-9][0-9]{0,59})", r"(0|[1-9][0-9]{0,59})"
+    if text == "-":
+        return []
+    requests = []
+    for part in text.split(" "):
+        found = re.fullmatch(day + r"\.\." + day + ":" + price, part)
+        if not found or int(found[1]) > int(found[2]):
+            return None
+        requests.append((int(found[1]), int(found[2]), int(found[3])))
+    return requests
+
+
+def some_requests(chance, count, days=8, length=4, prices=6):
+    """So many requests by chance, the first days from one below 0 on."""
+    firsts = [chance.randrange(-days // 2, days // 2) for each in range(count)]
+    return [(first, first + chance.randrange(length), chance.randrange(prices)) for first in firsts]
